@@ -1,0 +1,1 @@
+"""Sure streams: results of queries that no later row can take back."""
