@@ -109,6 +109,35 @@ def outside(one, other):
     return [part for part in parts if not is_void(part)]
 
 
+def is_within(one, other):
+    """Returns whether a limit that is not void allows only values that another limit allows."""
+    if one == other:
+        return True
+    if is_of_words(one):
+        return are_words_within(one, other)
+    least, greatest = other
+    if one[0] < least:
+        return False
+    return greatest is None or one[1] is not None and one[1] <= greatest
+
+
+def are_words_within(one, other):
+    """Returns whether a limit of words that is not void allows only words that another one allows."""
+    if one[0] == "not":
+        return other[0] == "not" and is_void(common_words(one, opposite(other)))
+    for word in one[1:]:
+        if not allows(other, word):
+            return False
+    return True
+
+
+def meet(one, other):
+    """Returns whether there is a value that two limits allow that are not void."""
+    if is_of_words(one):
+        return not is_void(common_words(one, other))
+    return (one[1] is None or other[0] <= one[1]) and (other[1] is None or one[0] <= other[1])
+
+
 def united(one, other):
     """Returns the limit of the values of two limits that are not void, or None if there is none."""
     if is_of_words(one):
@@ -120,6 +149,43 @@ def united(one, other):
     if low[1] + 1 < high[0]:
         return None
     return (low[0], None if high[1] is None else max(low[1], high[1]))
+
+
+def beginning(limit):
+    """Returns the least number that a limit allows; limits of words may stand in any order."""
+    return 0 if is_of_words(limit) else limit[0]
+
+
+def all_united(limits):
+    """Returns limits, as few as can be, of the values of some limits of a kind that are not void."""
+    found = []
+    for limit in sorted(limits, key=beginning):
+        both = united(found[-1], limit) if found else None
+        if both is None:
+            found.append(limit)
+        else:
+            found[-1] = both
+    return found
+
+
+def left_over(limit, values):
+    """Returns limits of different values, none of them void: what a limit allows but some of its values."""
+    if is_of_words(limit):
+        rest = common(limit, ("not",) + tuple(sorted(set(values))))
+        return [] if is_void(rest) else [rest]
+    found = []
+    rest = limit
+    for value in sorted(set(values)):
+        found.append((rest[0], value - 1))
+        rest = (value + 1, rest[1])
+    return [part for part in found + [rest] if not is_void(part)]
+
+
+def only(limit):
+    """Returns the only value that a limit allows, or None if it does not allow just one."""
+    if is_of_words(limit):
+        return limit[1] if limit[0] == "in" and len(limit) == 2 else None
+    return limit[0] if limit[0] == limit[1] else None
 
 
 def size(limit):

@@ -3,8 +3,8 @@
 Two spans that meet here have the same columns.
 """
 
-from surestreams.limits import allows, common, everything, is_limit, is_void, one_form
-from surestreams.limits import outside, size, some_value, united
+from surestreams.limits import allows, common, everything, is_limit, is_void, is_within, meet
+from surestreams.limits import one_form, outside, size, some_value, united
 
 
 def is_limits(columns, value):
@@ -27,9 +27,22 @@ def span_of(columns, limits):
     ])
 
 
+def whole(columns):
+    """Returns the span of all rows of the columns."""
+    return tuple([everything(kind) for _, kind in columns])
+
+
+def point(row):
+    """Returns the span of one row."""
+    return tuple([one_form("word" if isinstance(value, str) else "number", value) for value in row])
+
+
 def has(span, row):
     """Returns whether a row of the columns keeps all limits."""
-    return all([allows(limit, value) for limit, value in zip(span, row)])
+    for limit, value in zip(span, row):
+        if not allows(limit, value):
+            return False
+    return True
 
 
 def is_empty(span):
@@ -39,7 +52,23 @@ def is_empty(span):
 
 def is_part(one, other):
     """Returns whether each row of one is in other."""
-    return is_empty(one) or not any([outside(limit, bound) for limit, bound in zip(one, other)])
+    return is_empty(one) or is_inside(one, other)
+
+
+def is_inside(one, other):
+    """Returns whether each row of one, which is not empty, is in other."""
+    for limit, bound in zip(one, other):
+        if not is_within(limit, bound):
+            return False
+    return True
+
+
+def touch(one, other):
+    """Returns whether two spans that are not empty have a common row."""
+    for limit, bound in zip(one, other):
+        if not meet(limit, bound):
+            return False
+    return True
 
 
 def shared(one, other):
@@ -67,10 +96,10 @@ def gaps(spans, span, most=None):
     if is_empty(span):
         return []
     found = []
-    tasks = [(span, spans)]
+    tasks = [(span, [other for other in spans if not is_empty(other)])]
     while tasks and (most is None or len(found) < most):
         piece, others = tasks.pop()
-        near = [other for other in others if not is_empty(shared(piece, other))]
+        near = [other for other in others if touch(piece, other)]
         if not near:
             found.append(piece)
             continue

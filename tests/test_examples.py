@@ -14,6 +14,72 @@ BOXES = """
 >>> (('ann', 7) in box, ('bob', 7) in box, covers(parts, box), box.number())
 (True, False, True, None)
 """
+STREAMS = """
+>>> from surestreams.streams import Stream
+>>> stream = Stream('log', (('day', 'number'),))
+>>> done = [stream.add((3,)), stream.promise({'day': (None, 4)}), stream.promise({'day': (6, None)})]
+>>> (stream.is_open((2,)), [box.limits() for box in stream.open_boxes({})], stream.closed({'day': (1, 4)}))
+(False, [{'day': (5, 5)}], True)
+"""
+QUERIES = """
+>>> from surestreams.queries import source
+>>> orders, bans = source('orders', (('who', 'word'), ('day', 'number'))), source('bans', (('who', 'word'),))
+>>> query = orders['who'] - bans.where('who', '!=', 'ann')
+>>> (query.columns, query.streams(), query.side('bans'), query == orders['who'] - bans)
+((('who', 'word'),), ['bans', 'orders'], 'take', False)
+"""
+BOUNDS = """
+>>> from surestreams.queries import source
+>>> from surestreams.streams import Stream
+>>> from surestreams.bounds import present, sure
+>>> columns = (('who', 'word'),)
+>>> streams = {'come': Stream('come', columns), 'gone': Stream('gone', columns)}
+>>> done = [streams['come'].add(('ann',)), streams['come'].add(('bob',)), streams['gone'].promise({'who': 'bob'})]
+>>> query = source('come', columns) - source('gone', columns)
+>>> (present(query, streams), sure(query, streams))
+([('ann',), ('bob',)], [('bob',)])
+"""
+ENGINE = """
+>>> from surestreams.queries import source
+>>> from surestreams.engine import Engine, Recorder
+>>> columns = (('who', 'word'),)
+>>> engine = Engine(source('come', columns) - source('gone', columns))
+>>> recorder = Recorder()
+>>> done = [engine.row('come', ('ann',)), engine.row('come', ('bob',)), engine.subscribe(recorder), engine.promise('gone', {'who': ('not', 'bob')})]
+>>> (done, engine.waiting(), recorder.rows())
+([[], [], None, [('ann',)]], [('bob',)], [('ann',)])
+"""
+PAPERS = """
+>>> from surestreams.queries import source
+>>> from surestreams.engine import Engine
+>>> from surestreams.papers import reasons, removal
+>>> columns = (('who', 'word'),)
+>>> engine = Engine(source('come', columns) - source('gone', columns))
+>>> done = [engine.row('come', ('ann',)), engine.promise('come', {}), engine.row('gone', ('bob',))]
+>>> before = removal(engine, ('ann',))
+>>> later = [engine.promise('gone', {'who': 'cid'}), engine.promise('gone', {})]
+>>> (before, later, reasons(engine, ('ann',)))
+([('gone', ('ann',))], [[], [('ann',)]], [('gone', 1)])
+"""
+GROUPS = """
+>>> from surestreams.queries import source
+>>> from surestreams.streams import Stream
+>>> from surestreams.groups import counts, leasts
+>>> columns = (('who', 'word'), ('day', 'number'))
+>>> log = Stream('log', columns)
+>>> done = [log.add(('ann', 5)), log.add(('bob', 3)), log.promise({'day': (None, 4)}), log.promise({'who': 'bob'})]
+>>> (counts(source('log', columns), {'log': log}, ('who',)), leasts(source('log', columns), {'log': log}, ('who',), 'day'))
+({('bob',): 1}, {('ann',): 5, ('bob',): 3})
+"""
+REWRITING = """
+>>> from surestreams.queries import source
+>>> from surestreams.rewriting import pushed, rewrites
+>>> day = (('day', 'number'),)
+>>> one, other = source('a', day), source('b', day)
+>>> query = (one - other).where('day', '<', 5)
+>>> ([(rule, path) for rule, path, result in rewrites(query)], pushed(query) == one.where('day', '<', 5) - other)
+([(2, ())], True)
+"""
 
 
 class ExamplesTest(unittest.TestCase):
@@ -25,6 +91,27 @@ class ExamplesTest(unittest.TestCase):
 
     def test_boxes(self):
         self.holds(BOXES, "boxes")
+
+    def test_streams(self):
+        self.holds(STREAMS, "streams")
+
+    def test_queries(self):
+        self.holds(QUERIES, "queries")
+
+    def test_bounds(self):
+        self.holds(BOUNDS, "bounds")
+
+    def test_engine(self):
+        self.holds(ENGINE, "engine")
+
+    def test_papers(self):
+        self.holds(PAPERS, "papers")
+
+    def test_groups(self):
+        self.holds(GROUPS, "groups")
+
+    def test_rewriting(self):
+        self.holds(REWRITING, "rewriting")
 
     def test_readme(self):
         with open(README, encoding="ascii") as file:

@@ -61,6 +61,33 @@ def bound_names():
     return found
 
 
+def parents(tree):
+    """Returns a dict from the nodes of a tree to the nodes that they stand in."""
+    return {child: node for node in ast.walk(tree) for child in ast.iter_child_nodes(node)}
+
+
+def called(node):
+    """Returns the name of the function or method that a node calls, or None."""
+    if not isinstance(node, ast.Call):
+        return None
+    return getattr(node.func, "id", None) or getattr(node.func, "attr", None)
+
+
+def is_in(node, parent, names):
+    """Returns whether a node stands after the in of a loop, or in the call of one of some functions."""
+    if isinstance(parent, (ast.For, ast.comprehension)):
+        return parent.iter is node
+    return called(parent) in names and isinstance(parent.func, ast.Name)
+
+
+def properties():
+    """Returns the names of all properties."""
+    return {
+        node.name for _, node in nodes(ast.FunctionDef)
+        if any(isinstance(each, ast.Name) and each.id == "property" for each in node.decorator_list)
+    }
+
+
 class FormTest(unittest.TestCase):
     def test_files(self):
         self.assertIn("__init__.py", sources())
@@ -123,9 +150,57 @@ class FormTest(unittest.TestCase):
                 if isinstance(word, str) and word != "type":
                     self.assertIsNone(BARRED_WORDS.fullmatch(word), (name, word))
 
+    def test_iterated_at_once(self):
+        takers = "list tuple dict sorted sum any all enumerate zip min max len".split()
+        for name, text in sources().items():
+            tree = ast.parse(text)
+            above = parents(tree)
+            for node in ast.walk(tree):
+                if called(node) in ("zip", "enumerate", "range", "reversed", "items", "keys", "values", "rewrites", "feed"):
+                    self.assertTrue(is_in(node, above[node], takers), (name, node.lineno))
+
+    def test_sets(self):
+        for name, text in sources().items():
+            tree = ast.parse(text)
+            above = parents(tree)
+            for node in ast.walk(tree):
+                if isinstance(node, (ast.Set, ast.SetComp)) or called(node) == "set":
+                    parent = above[node]
+                    parent = above[parent] if isinstance(parent, ast.BinOp) else parent
+                    good = isinstance(parent, (ast.Compare, ast.Assign)) or called(parent) in ("sorted", "len")
+                    self.assertTrue(good, (name, node.lineno))
+
+    def test_lists_instead_of_generator_expressions(self):
+        self.assertEqual(nodes(ast.GeneratorExp), [])
+
+    def test_imports_are_used_and_name_nothing_else(self):
+        for name, text in sources().items():
+            tree = ast.parse(text)
+            imported = {each.name for node in ast.walk(tree) if isinstance(node, ast.ImportFrom) for each in node.names}
+            names = [node for node in ast.walk(tree) if isinstance(node, ast.Name)]
+            self.assertEqual(imported - {node.id for node in names}, set(), name)
+            bound = {node.id for node in names if isinstance(node.ctx, ast.Store)}
+            bound |= {node.arg for node in ast.walk(tree) if isinstance(node, ast.arg)}
+            bound |= {node.name for node in ast.walk(tree) if isinstance(node, (ast.FunctionDef, ast.ClassDef))}
+            self.assertEqual(imported & bound, set(), name)
+
+    def test_no_circles_of_imports(self):
+        needs = {}
+        for name, node in nodes(ast.ImportFrom):
+            needs.setdefault(name[:-3], set()).add(node.module.split(".")[-1])
+        while needs:
+            free = [name for name in needs if not needs[name] & set(needs)]
+            self.assertTrue(free, needs)
+            needs = {name: others for name, others in needs.items() if name not in free}
+
+    def test_properties_and_methods_are_not_assigned(self):
+        methods = {each.name for _, node in nodes(ast.ClassDef) for each in node.body if isinstance(each, ast.FunctionDef)}
+        assigned = {node.attr for _, node in nodes(ast.Attribute) if isinstance(node.ctx, ast.Store)}
+        self.assertEqual(assigned & (methods | properties()), set())
+
     def test_functions_and_classes_have_docstrings(self):
         for name, node in nodes(ast.FunctionDef, ast.ClassDef):
-            if node.name != "__init__":
+            if node.name not in ("__init__", "__iter__"):
                 self.assertIsNotNone(ast.get_docstring(node), (name, node.name))
 
 

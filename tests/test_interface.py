@@ -18,6 +18,27 @@ ERRORS_BY_PARAMETER = {
 FUNCTIONS = {
     "columns": {"is_word": ["value"], "is_columns": ["value"], "is_row": ["columns", "value"]},
     "boxes": {"covers": ["boxes", "box"], "uncovered": ["boxes", "box"], "merged": ["one", "other"]},
+    "queries": {"source": ["name", "columns"]},
+    "bounds": {
+        "present": ["query", "streams"],
+        "sure": ["query", "streams"],
+        "is_possible": ["query", "streams", "row"],
+        "possible_boxes": ["query", "streams"],
+    },
+    "papers": {
+        "removal": ["engine", "row"],
+        "is_removal": ["engine", "row", "value"],
+        "reasons": ["engine", "row"],
+        "is_reason": ["engine", "row", "value"],
+    },
+    "groups": {
+        "counts": ["query", "streams", "keys"],
+        "sums": ["query", "streams", "keys", "column"],
+        "leasts": ["query", "streams", "keys", "column"],
+        "greatests": ["query", "streams", "keys", "column"],
+        "firsts": ["query", "streams", "column", "number"],
+    },
+    "rewriting": {"rewrites": ["query"], "is_rewriting": ["value"], "pushed": ["query"]},
 }
 CLASSES = {
     "boxes": {
@@ -34,8 +55,62 @@ CLASSES = {
             "__bool__": None,
         },
     },
+    "streams": {
+        "Stream": {
+            "__init__": ["name", "columns"],
+            "add": ["row"],
+            "promise": ["limits"],
+            "rows": [],
+            "promises": [],
+            "is_open": ["row"],
+            "closed": ["limits"],
+            "open_boxes": ["limits"],
+            "superfluous": [],
+            "copy": [],
+            "__contains__": None,
+            "__len__": None,
+        },
+    },
+    "queries": {
+        "Query": {
+            "where": ["column", "sign", "value"],
+            "renamed": ["old", "new"],
+            "closure": [],
+            "streams": [],
+            "side": ["name"],
+            "parts": [],
+            "__getitem__": None,
+            "__and__": None,
+            "__or__": None,
+            "__sub__": None,
+            "__eq__": None,
+        },
+    },
+    "engine": {
+        "Engine": {
+            "__init__": ["query"],
+            "row": ["name", "row"],
+            "promise": ["name", "limits"],
+            "out": [],
+            "waiting": [],
+            "events": [],
+            "stream_of": ["name"],
+            "feed": ["events"],
+            "tried": ["events"],
+            "subscribe": ["call"],
+            "copy": [],
+        },
+        "Recorder": {"__init__": [], "rows": [], "__call__": ["row"], "__len__": None},
+    },
 }
-PROPERTIES = {"boxes": {"Box": ["columns"]}}
+CLASS_METHODS = {"engine": {"Engine": {"replayed": ["query", "events"]}}}
+GENERATORS = {"engine": {"Engine": ["feed"]}, "rewriting": {None: ["rewrites"]}}
+PROPERTIES = {
+    "boxes": {"Box": ["columns"]},
+    "streams": {"Stream": ["name", "columns"]},
+    "queries": {"Query": ["columns"]},
+    "engine": {"Engine": ["query"]},
+}
 
 
 def part_of(module, name):
@@ -78,6 +153,23 @@ class InterfaceTest(unittest.TestCase):
                     with self.subTest(name, method=method):
                         self.assertIn(method, vars(made))
                         self.assertIn(names, (None, parameters(vars(made)[method])[1:]))
+
+    def test_class_methods(self):
+        for module, classes in CLASS_METHODS.items():
+            for name, methods in classes.items():
+                for method, names in methods.items():
+                    with self.subTest(name, method=method):
+                        found = vars(part_of(module, name))[method]
+                        self.assertIsInstance(found, classmethod)
+                        self.assertEqual(parameters(found.__func__)[1:], names)
+
+    def test_generators(self):
+        for module, classes in GENERATORS.items():
+            for name, functions in classes.items():
+                for function in functions:
+                    with self.subTest(function):
+                        found = part_of(module, function) if name is None else vars(part_of(module, name))[function]
+                        self.assertTrue(inspect.isgeneratorfunction(found))
 
     def test_properties(self):
         for module, classes in PROPERTIES.items():

@@ -3,7 +3,8 @@
 import unittest
 from itertools import product
 
-from surestreams.limits import allows, common, is_void, one_form, outside, size, some_value, united, word_at
+from surestreams.limits import all_united, allows, common, is_void, is_within, left_over, meet, one_form, only, outside
+from surestreams.limits import size, some_value, united, word_at
 from tests.worlds import NUMBER_LIMITS, WORD_LIMITS, values
 
 
@@ -50,6 +51,46 @@ class LimitsTest(unittest.TestCase):
                 found = united(one, other)
                 self.assertEqual(found is not None, both in [values_of(kind, limit) for limit in forms(kind)])
                 self.assertTrue(found is None or values_of(kind, found) == both)
+
+    def test_is_within_and_meet(self):
+        for kind, one, other in pairs():
+            if is_void(one):
+                continue
+            with self.subTest(one=one, other=other):
+                found = values_of(kind, one)
+                self.assertIs(is_within(one, other), found <= values_of(kind, other))
+                if not is_void(other):
+                    self.assertIs(meet(one, other), bool(found & values_of(kind, other)))
+
+    def test_all_united(self):
+        for kind in ("number", "word"):
+            limits = [limit for limit in forms(kind) if not is_void(limit)]
+            for chosen in product(limits, repeat=3 if kind == "word" else 2):
+                found = [values_of(kind, limit) for limit in all_united(list(chosen))]
+                with self.subTest(chosen=chosen):
+                    self.assertEqual(set().union(*found), set().union(*[values_of(kind, limit) for limit in chosen]))
+                    self.assertEqual(sum(len(part) for part in found), len(set().union(*found)))
+        self.assertEqual(all_united([(7, None), (0, 2), (3, 3), (5, 5), (1, 1)]), [(0, 3), (5, 5), (7, None)])
+        self.assertEqual(all_united([(4, 9), (2, 7), (0, None)]), [(0, None)])
+        self.assertEqual(all_united([("in", "b"), ("not", "a", "b"), ("in", "c")]), [("not", "a")])
+
+    def test_left_over(self):
+        for kind in ("number", "word"):
+            for limit in forms(kind):
+                inside = sorted(values_of(kind, limit))
+                for some in (inside, inside[:1], inside[1:], inside[::2], []):
+                    parts = [values_of(kind, part) for part in left_over(limit, some[::-1])]
+                    with self.subTest(limit=limit, some=some):
+                        self.assertEqual(set().union(*parts), set(inside) - set(some))
+                        self.assertEqual(sum(len(part) for part in parts), len(inside) - len(some))
+        self.assertEqual(left_over((0, None), [5, 3, 4]), [(0, 2), (6, None)])
+
+    def test_only(self):
+        for limit, value in (
+            ((3, 3), 3), ((0, 0), 0), ((0, None), None), ((3, 4), None), (("in", "a"), "a"), (("in",), None), (("not",), None),
+            (("in", "a", "b"), None), (("not", "a"), None), (("in", "in"), "in"),
+        ):
+            self.assertEqual(only(limit), value)
 
     def test_void_size_and_some_value(self):
         for kind in ("number", "word"):
