@@ -65,7 +65,9 @@ class Stream:
 
     def closed(self, limits):
         """Returns whether no row of the box with these limits is open."""
-        return not open_spans(self, checked_span(self, limits))
+        span = checked_span(self, limits)
+        # Of more pieces without common rows than there are rows, one has an open row.
+        return not open_spans(self, span, len(self._there) + 1)
 
     def open_boxes(self, limits):
         """Returns boxes without common rows: the open rows of the box with these limits."""
@@ -105,10 +107,13 @@ def is_promised(stream, row):
     return any([has(span, row) for span in stream._kept])
 
 
-def open_spans(stream, span):
-    """Returns spans without common rows: the open rows of a span."""
+def open_spans(stream, span, most=None):
+    """Returns spans without common rows: the open rows of a span.
+
+    With most, not more than so many pieces of the span that no promise covers are looked at.
+    """
     found = []
-    for piece in gaps(stream._kept, span):
+    for piece in gaps(stream._kept, span, most):
         found.extend(without_rows(piece, [row for row in stream._there if has(piece, row)]))
     return found
 
