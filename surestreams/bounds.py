@@ -4,8 +4,9 @@ from surestreams.boxes import box_of
 from surestreams.columns import fits
 from surestreams.errors import InvalidRow, UnknownStream
 from surestreams.queries import use_of
-from surestreams.spans import point
+from surestreams.spans import has, is_empty, point, row_number
 from surestreams.state import State
+from surestreams.steps import steps_of
 from surestreams.streams import Stream
 
 
@@ -15,7 +16,7 @@ def state_of(query, streams):
         stream = streams.get(name)
         if not isinstance(stream, Stream) or stream.columns != use_of(query, name)[1]:
             raise UnknownStream(name)
-    return State(query, streams)
+    return State(steps_of(query), streams)
 
 
 def present(query, streams):
@@ -32,6 +33,16 @@ def sure(query, streams):
 def sure_rows(state):
     """Returns the sure rows of the query of a state in ascending order."""
     return sorted([row for row in state.result(state.top) if state.is_sure(state.top, row)])
+
+
+def are_all_possible(state, span, rows):
+    """Returns whether all possible rows of a span are among some sure rows."""
+    if is_empty(span):
+        return True
+    for piece in state.possible(state.top, span):
+        if row_number(piece) != len([row for row in rows if has(piece, row)]):
+            return False
+    return True
 
 
 def is_possible(query, streams, row):

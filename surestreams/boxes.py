@@ -1,9 +1,9 @@
 """Boxes: sets of rows, possibly infinite or empty, that are given by a limit for each column."""
 
 from surestreams.columns import fits, is_columns
+from surestreams.coverage import is_covered
 from surestreams.errors import InvalidBox, InvalidColumns
-from surestreams.limits import everything
-from surestreams.spans import gaps, has, is_empty, is_limits, is_part, merged_span
+from surestreams.spans import gaps, has, is_empty, is_limits, is_part, limits_of, merged_span
 from surestreams.spans import row_number, shared, some_row_of, span_of, without
 
 
@@ -25,11 +25,7 @@ class Box:
 
     def limits(self):
         """Returns the limits, in their one form, of the columns that do not allow all values."""
-        return {
-            name: limit
-            for (name, kind), limit in zip(self._columns, self._span)
-            if limit != everything(kind)
-        }
+        return limits_of([name for name, _ in self._columns], self._span)
 
     def __contains__(self, row):
         """Returns whether any value is a row of the box."""
@@ -103,7 +99,7 @@ def covers(boxes, box):
     """Returns whether each row of the box is in one of the boxes."""
     check_box(box)
     check_all_like(box, boxes)
-    return not gaps([each._span for each in boxes], box._span, 1)
+    return is_covered([each._span for each in boxes], box._span)
 
 
 def uncovered(boxes, box):

@@ -1,10 +1,8 @@
 """The engine: gives out each row of a result once, as soon as it is sure."""
 
-from surestreams.columns import fits
-from surestreams.errors import InvalidEvent, UnknownStream
-from surestreams.queries import use_of
-from surestreams.spans import is_limits
-from surestreams.state import State
+from surestreams.errors import UnknownStream
+from surestreams.events import check_event, columns_used, copied
+from surestreams.outlets import Outlet
 from surestreams.streams import Stream
 
 
@@ -13,9 +11,8 @@ class Engine:
 
     def __init__(self, query):
         self._query = query
-        self._streams = {name: Stream(name, use_of(query, name)[1]) for name in query.streams()}
-        self._state = State(query, self._streams)
-        self._given = {}
+        self._streams = {name: Stream(name, columns) for name, columns in columns_used(query).items()}
+        self._outlet = Outlet(query, self._streams)
         self._events = []
         self._calls = []
 
@@ -27,24 +24,24 @@ class Engine:
     def row(self, name, row):
         """Performs the event that a row comes; returns the rows that are given out."""
         if known_stream(self, name).add(row):
-            self._state.row_came(name)
+            self._outlet.state.row_came(name)
         self._events.append(("row", name, row))
         return given_out(self)
 
     def promise(self, name, limits):
         """Performs the event of a promise; returns the rows that are given out."""
         known_stream(self, name).promise(limits)
-        self._state.promise_came(name)
+        self._outlet.state.promise_came(name)
         self._events.append(("promise", name, {column: limits[column] for column in limits}))
         return given_out(self)
 
     def out(self):
         """Returns the rows that are out, in the order in which they were given out."""
-        return list(self._given)
+        return list(self._outlet.given)
 
     def waiting(self):
         """Returns the rows of the present result that are not out, in ascending order."""
-        return sorted([row for row in self._state.result(self._state.top) if row not in self._given])
+        return self._outlet.waiting()
 
     def events(self):
         """Returns all events that were performed, in order."""
@@ -76,9 +73,9 @@ class Engine:
         """Returns an independent engine with the same events, without subscribers."""
         other = Engine(self._query)
         for name in self._query.streams():
-            # The state of the other engine goes by this very dict.
+            # The outlet of the other engine goes by this very dict.
             other._streams[name] = self._streams[name].copy()
-        other._given = {row: True for row in self._given}
+        other._outlet.take_over(self._outlet)
         other._events = self.events()
         return other
 
@@ -119,27 +116,16 @@ def known_stream(engine, name):
 
 def state_now(engine):
     """Returns the state of an engine, which changes with each event."""
-    return engine._state
+    return engine._outlet.state
 
 
 def given_out(engine):
     """Gives out the rows that are sure and not yet out; returns them in ascending order."""
-    state = engine._state
-    rows = [row for row in engine.waiting() if state.is_sure(state.top, row)]
-    for row in rows:
-        engine._given[row] = True
+    rows = engine._outlet.give()
     for row in rows:
         for call in list(engine._calls):
             call(row)
     return rows
-
-
-def copied(event):
-    """Returns an event that has no dict in common with an event."""
-    kind, name, value = event
-    if kind == "row":
-        return event
-    return (kind, name, {column: value[column] for column in value})
 
 
 def performed(engine, event):
@@ -152,19 +138,6 @@ def performed(engine, event):
 
 def check_events(query, events):
     """Raises InvalidEvent with the first value that is not an event of the streams of a query."""
+    columns = columns_used(query)
     for event in events:
-        if not is_event(query, event):
-            raise InvalidEvent(event)
-
-
-def is_event(query, value):
-    """Returns whether any value is an event of the streams of a query."""
-    if not isinstance(value, tuple) or len(value) != 3:
-        return False
-    kind, name, content = value
-    if not isinstance(name, str) or name not in query.streams():
-        return False
-    columns = use_of(query, name)[1]
-    if kind == "row":
-        return fits(columns, content)
-    return kind == "promise" and is_limits(columns, content)
+        check_event(columns, event)

@@ -4,13 +4,13 @@ A continuation may take away all rows that are not sure, and another one may add
 rows. So a value is sure if the sure rows have it, and no other possible row would change it.
 """
 
-from surestreams.bounds import state_of, sure_rows
+from surestreams.bounds import are_all_possible, state_of, sure_rows
 from surestreams.columns import is_number
 from surestreams.errors import InvalidQuery
 from surestreams.limits import common
 from surestreams.queries import is_selection
 from surestreams.regions import changed, pick
-from surestreams.spans import gaps, has, is_empty, point, row_number
+from surestreams.spans import gaps, is_empty, point, row_number
 from surestreams.steps import condition, places_in
 
 
@@ -21,7 +21,7 @@ def counts(query, streams, keys):
     return {
         key: len(rows)
         for key, rows in groups_of(query, state, keys).items()
-        if is_settled(state, group_span(query, state, keys, key), rows)
+        if are_all_possible(state, group_span(query, state, keys, key), rows)
     }
 
 
@@ -34,7 +34,7 @@ def sums(query, streams, keys, column):
     for key, rows in groups_of(query, state, keys).items():
         span = group_span(query, state, keys, key)
         # Rows with the value 0 may come and go.
-        if is_settled(state, narrowed(span, at, ">", 0), rows):
+        if are_all_possible(state, narrowed(span, at, ">", 0), rows):
             found[key] = sum([row[at] for row in rows])
     return found
 
@@ -59,7 +59,7 @@ def ends_of_groups(query, streams, keys, column, sign):
         values = [row[at] for row in rows]
         end = min(values) if sign == "<" else max(values)
         span = group_span(query, state, keys, key)
-        if is_settled(state, narrowed(span, at, sign, end), rows):
+        if are_all_possible(state, narrowed(span, at, sign, end), rows):
             found[key] = end
     return found
 
@@ -115,18 +115,7 @@ def group_span(query, state, keys, key):
 
 def narrowed(span, at, sign, value):
     """Returns the span of the rows in which the value of a number column is < or > a value."""
-    limits = condition(sign, value)
-    return changed(span, at, common(span[at], limits[0])) if limits else changed(span, at, (1, 0))
-
-
-def is_settled(state, span, rows):
-    """Returns whether all possible rows of a span are among the sure rows of its group."""
-    if is_empty(span):
-        return True
-    for piece in state.possible(state.top, span):
-        if row_number(piece) != len([row for row in rows if has(piece, row)]):
-            return False
-    return True
+    return changed(span, at, common(span[at], condition(sign, value)[0]))
 
 
 def are_fewer_below(state, at, value, number):

@@ -47,6 +47,11 @@ def everything(kind):
     return (0, None) if kind == "number" else ("not",)
 
 
+def is_everything(limit):
+    """Returns whether a limit allows all values."""
+    return limit in ((0, None), ("not",))
+
+
 def is_of_words(limit):
     """Returns whether a limit is one of words."""
     return isinstance(limit[0], str)
@@ -134,8 +139,22 @@ def are_words_within(one, other):
 def meet(one, other):
     """Returns whether there is a value that two limits allow that are not void."""
     if is_of_words(one):
-        return not is_void(common_words(one, other))
+        return meet_in_words(one, other)
     return (one[1] is None or other[0] <= one[1]) and (other[1] is None or one[0] <= other[1])
+
+
+def meet_in_words(one, other):
+    """Returns whether there is a word that two limits of words allow that are not void."""
+    if one[0] == "not" and other[0] == "not":
+        return True
+    few, many = (one, other) if one[0] == "in" and (other[0] == "not" or len(one) <= len(other)) else (other, one)
+    # To look for a word in a tuple is quick for a few words only.
+    if len(few) > 8:
+        return not is_void(common_words(few, many))
+    for word in few[1:]:
+        if allows(many, word):
+            return True
+    return False
 
 
 def united(one, other):

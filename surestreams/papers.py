@@ -3,8 +3,7 @@
 from surestreams.columns import fits, is_number
 from surestreams.engine import state_now
 from surestreams.errors import InvalidRow
-from surestreams.state import State
-from surestreams.streams import with_promises
+from surestreams.streams import promise_number, with_promises
 from surestreams.witnesses import rows_against
 
 
@@ -15,7 +14,7 @@ def removal(engine, row):
     if not is_there(state, row) or state.is_sure(state.top, row):
         return None
     pairs = {pair: True for pair in rows_against(state, state.top, row)}
-    return least_part(sorted(pairs), lambda part: is_gone(engine, row, part))
+    return least_part(sorted(pairs), lambda part: is_gone(state, row, part))
 
 
 def is_removal(engine, row, value):
@@ -23,7 +22,7 @@ def is_removal(engine, row, value):
     state = state_now(engine)
     if not fits(engine.query.columns, row) or not is_there(state, row):
         return False
-    return are_different(value, is_open_pair, state) and is_gone(engine, row, value)
+    return are_different(value, is_open_pair, state) and is_gone(state, row, value)
 
 
 def reasons(engine, row):
@@ -32,7 +31,7 @@ def reasons(engine, row):
     state = state_now(engine)
     if not state.is_sure(state.top, row):
         return None
-    return least_part(useful_promises(state), lambda part: suffice(engine, row, part))
+    return least_part(useful_promises(state), lambda part: suffice(state, row, part))
 
 
 def is_reason(engine, row, value):
@@ -40,7 +39,7 @@ def is_reason(engine, row, value):
     state = state_now(engine)
     if not fits(engine.query.columns, row):
         return False
-    return are_different(value, is_promise_pair, state) and suffice(engine, row, value)
+    return are_different(value, is_promise_pair, state) and suffice(state, row, value)
 
 
 def check_row(engine, row):
@@ -77,15 +76,16 @@ def is_open_pair(state, value):
 def is_promise_pair(state, value):
     """Returns whether any value is a pair of the name of a stream and of the index of a promise."""
     stream = stream_in(state, value)
-    return stream is not None and is_number(value[1]) and value[1] < len(stream.promises())
+    return stream is not None and is_number(value[1]) and value[1] < promise_number(stream)
 
 
-def is_gone(engine, row, pairs):
+def is_gone(state, row, pairs):
     """Returns whether a row is not in the result after open rows have come."""
-    streams = {name: engine.stream_of(name) for name in engine.query.streams()}
+    names = sorted({name for name, _ in pairs})
+    later = {name: state.sources[name].copy() if name in names else state.sources[name] for name in state.sources}
     for name, new in pairs:
-        streams[name].add(new)
-    return not is_there(State(engine.query, streams), row)
+        later[name].add(new)
+    return not is_there(state.over(later, names), row)
 
 
 def useful_promises(state):
@@ -95,18 +95,18 @@ def useful_promises(state):
         (name, index)
         for name in sorted(sides)
         if sides[name] == "take"
-        for index in range(len(state.sources[name].promises()))
+        for index in range(promise_number(state.sources[name]))
     ]
 
 
-def suffice(engine, row, pairs):
+def suffice(state, row, pairs):
     """Returns whether a row is sure with some promises only."""
     streams = {}
-    for name in engine.query.streams():
-        indexes = [index for word, index in pairs if word == name]
-        streams[name] = with_promises(engine.stream_of(name), indexes)
-    state = State(engine.query, streams)
-    return state.is_sure(state.top, row)
+    for name, stream in state.sources.items():
+        streams[name] = with_promises(stream, [index for word, index in pairs if word == name])
+    # Without promises there are the same rows.
+    other = state.over(streams, [])
+    return other.is_sure(other.top, row)
 
 
 def least_part(values, is_enough):

@@ -3,8 +3,8 @@
 Two spans that meet here have the same columns.
 """
 
-from surestreams.limits import allows, common, everything, is_limit, is_void, is_within, meet
-from surestreams.limits import one_form, outside, size, some_value, united
+from surestreams.limits import allows, common, everything, is_everything, is_limit, is_void, is_within
+from surestreams.limits import meet, one_form, outside, size, some_value, united
 
 
 def is_limits(columns, value):
@@ -25,6 +25,11 @@ def span_of(columns, limits):
         one_form(kind, limits[name]) if name in limits else everything(kind)
         for name, kind in columns
     ])
+
+
+def limits_of(names, span):
+    """Returns a dict from the names of columns to their limits, but those that allow all values."""
+    return {name: limit for name, limit in zip(names, span) if not is_everything(limit)}
 
 
 def whole(columns):

@@ -3,7 +3,6 @@
 from surestreams.possibility import found_possible
 from surestreams.regions import pick
 from surestreams.relations import chains, relation, rows_of_step
-from surestreams.steps import steps_of
 from surestreams.surety import found_sure
 
 
@@ -14,10 +13,10 @@ class State:
     the query. If a stream changes, the state has to be told.
     """
 
-    def __init__(self, query, sources):
-        self.steps = steps_of(query)
+    def __init__(self, steps, sources):
+        self.steps = steps
         self.sources = sources
-        self.top = len(self.steps) - 1
+        self.top = len(steps) - 1
         self._results = {}
         self._origins = {}
         self._sure = {at: {} for at in range(len(self.steps))}
@@ -65,6 +64,14 @@ class State:
         if span not in known:
             known[span] = found_possible(self, at, span)
         return known[span]
+
+    def over(self, sources, names):
+        """Returns the state over other streams, of which only those with these names have other rows."""
+        other = State(self.steps, sources)
+        for at, step in enumerate(self.steps):
+            if at in self._results and not any([name in step.sides for name in names]):
+                other._results[at] = self._results[at]
+        return other
 
     def row_came(self, name):
         """Forgets the answers that may be different after a row has come to a stream."""

@@ -7,6 +7,7 @@ from surestreams.spans import whole
 class Step:
     """One part of a query; below are the indexes of the steps of the parts from which it was made.
 
+    shape are the columns; limits_there are the limits of the values that fulfil a condition.
     places are, for where and columns, the positions of the named columns in the part; for a join
     those of the columns of the second part in the query. Of these, pairs are (position in the
     second part, position in the first part), and extra are the positions, in the second part, of
@@ -17,6 +18,7 @@ class Step:
         parts = query.parts()
         self.kind = parts[0]
         self.below = below
+        self.shape = query.columns
         self.whole = whole(query.columns)
         self.sides = {name: query.side(name) for name in query.streams()}
         self.word = parts[1] if self.kind == "source" else None
@@ -60,7 +62,11 @@ def places_in(query, names):
 
 
 def condition(sign, value):
-    """Returns limits of different values, none of them void: the values that compare so with a value."""
+    """Returns limits of different values: together, of the values that compare so with a value.
+
+    There are two for numbers that are smaller or greater, and else there is one. It is void if there
+    is no such value.
+    """
     if isinstance(value, str):
         return [("in", value)] if sign == "=" else [("not", value)]
     below = [(0, value - 1)] if value > 0 else []
@@ -71,7 +77,7 @@ def condition(sign, value):
     if sign == "!=":
         return below + above
     if sign == "<":
-        return below
+        return below if below else [(1, 0)]
     if sign == ">":
         return above
     return [(0, value)] if sign == "<=" else [(value, None)]

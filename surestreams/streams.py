@@ -2,9 +2,10 @@
 
 from surestreams.boxes import box_of
 from surestreams.columns import fits, is_columns, is_word
+from surestreams.coverage import is_covered
 from surestreams.errors import BrokenPromise, InvalidBox, InvalidColumns, InvalidRow, UnknownStream
 from surestreams.regions import tidy, without_rows
-from surestreams.spans import gaps, has, is_limits, point, span_of
+from surestreams.spans import gaps, has, is_empty, is_limits, is_part, point, shared, span_of
 
 
 class Stream:
@@ -77,7 +78,7 @@ class Stream:
         """Returns the indexes of the promises that all the others together cover, in ascending order."""
         return [
             index for index, span in enumerate(self._kept)
-            if not gaps(self._kept[:index] + self._kept[index + 1:], span, 1)
+            if is_covered(self._kept[:index] + self._kept[index + 1:], span)
         ]
 
     def copy(self):
@@ -105,6 +106,27 @@ def checked_span(stream, limits):
 def is_promised(stream, row):
     """Returns whether a row is in a promised box."""
     return any([has(span, row) for span in stream._kept])
+
+
+def is_closed_by(stream, indexes, span):
+    """Returns whether no row of a span is there, and promises with these indexes cover it."""
+    if any([has(span, row) for row in stream._there]):
+        return False
+    different = {index: True for index in indexes}
+    return is_covered([stream._kept[index] for index in different], span)
+
+
+def closing_promises(stream, span):
+    """Returns the indexes of promises that cover a span that all promises cover: of one, if one is enough."""
+    for index, kept in enumerate(stream._kept):
+        if is_part(span, kept):
+            return (index,)
+    return tuple([index for index, kept in enumerate(stream._kept) if not is_empty(shared(span, kept))])
+
+
+def promise_number(stream):
+    """Returns the number of the promises."""
+    return len(stream._kept)
 
 
 def open_spans(stream, span, most=None):

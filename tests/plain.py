@@ -31,6 +31,18 @@ COMPARED = {
 }
 
 
+class Rude:
+    """A value that cannot be compared, measured or looked up."""
+
+    __hash__ = None
+
+    def __eq__(self, other):
+        raise AssertionError("compared")
+
+    def __len__(self):
+        raise AssertionError("measured")
+
+
 def closed_pairs(pairs):
     """Returns the pairs to which chains of one or more pairs lead."""
     found = set(pairs)

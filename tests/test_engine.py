@@ -8,7 +8,7 @@ from surestreams.engine import Engine, Recorder
 from surestreams.errors import BrokenPromise, InvalidBox, InvalidEvent, InvalidRow, UnknownStream
 from surestreams.queries import source
 from surestreams.streams import Stream
-from tests.plain import columns_of, drawn_history, drawn_limits, world
+from tests.plain import Rude, columns_of, drawn_history, drawn_limits, world
 
 WHO = (("who", "word"),)
 PAIR = (("a", "word"), ("b", "word"))
@@ -25,6 +25,8 @@ NO_EVENTS = [
     ("row", "come", {}), ("row", "left", ANN), ("row", "Come", ANN), ("row", None, ANN), ("row", ["come"], ANN), ("row", 3, ANN),
     ("row", "come", "ann"), ("row", "come", ["ann"]), ("row", "come", ("Ann",)), ("row", "come", (3,)), ("row", "come", ()),
     ("row", "come", None), ("promise", "left", {}), ("promise", "gone", None), ("promise", "gone", []), ("promise", "gone", {"a": "b"}),
+    ("Promise", "gone", {}), ("x", "gone", {}), (None, "gone", {}), (True, "gone", {}), (Rude(), "gone", {}), (Rude(), "gone", ANN), ("row", Rude(), ANN),
+    ("row", "come", Rude()), ("promise", "gone", Rude()), ("promise", "gone", {"who": Rude()}), ("row", "come", (Rude(),)), Rude(),
     ("promise", "gone", {"who": 3}), ("promise", "gone", {"who": ("ann",)}), ("promise", "gone", {"who": True}), object(), Engine,
 ]
 NO_NAMES = [None, 3, "", "left", "Come", ("come",), ["come"], {}, LEFT, True]

@@ -80,6 +80,68 @@ REWRITING = """
 >>> ([(rule, path) for rule, path, result in rewrites(query)], pushed(query) == one.where('day', '<', 5) - other)
 ([(2, ())], True)
 """
+FORMATS = """
+>>> from surestreams.formats import format_limits, parse_limits
+>>> columns = (('who', 'word'), ('day', 'number'))
+>>> (format_limits(columns, {'day': (3, None), 'who': 'ann'}), parse_limits(columns, 'who!ann,bob day=0..9'))
+('who=ann day=3..', {'who': ('not', 'ann', 'bob'), 'day': (0, 9)})
+"""
+CONSOLE = """
+>>> from surestreams.queries import source
+>>> from surestreams.console import Console
+>>> who = (('who', 'word'),)
+>>> console = Console(source('come', who) - source('gone', who))
+>>> texts = [console.execute('row come ann'), console.execute('why ann'), console.execute('promise gone who=ann')]
+>>> (texts, console.execute("open gone bob"))
+(['-', 'gone ann', 'ann'], 'yes')
+"""
+CERTIFICATES = """
+>>> from surestreams.queries import source
+>>> from surestreams.streams import Stream
+>>> from surestreams.certificates import certificate, is_certificate
+>>> columns = (('a', 'word'), ('b', 'word'))
+>>> way, cut = Stream('way', columns), Stream('cut', columns)
+>>> done = [way.add(('x', 'y')), way.add(('y', 'z')), cut.promise({'a': 'x', 'b': ('not', 'x')}), cut.promise({'a': 'x'})]
+>>> query = source('way', columns).closure() - source('cut', columns).closure()
+>>> paper = certificate(query, {'way': way, 'cut': cut}, ('x', 'z'))
+>>> (paper[1], is_certificate(query, {'way': way, 'cut': cut}, ('x', 'z'), paper))
+(('chain', (('x', 'y'), ('y', 'z')), (('row',), ('row',))), True)
+"""
+AUDIT = """
+>>> from surestreams.queries import source
+>>> from surestreams.audit import is_report, report
+>>> who = (('who', 'word'),)
+>>> query = source('come', who) - source('gone', who)
+>>> told = report(query, [('row', 'come', ('ann',)), ('promise', 'gone', {})])
+>>> (told[0][2], [row for row, paper in told[1][1]], is_report(query, told))
+([(('ann',), [('gone', ('ann',))])], [('ann',)], True)
+"""
+LANGUAGE = """
+>>> from surestreams.language import format_query, parse_query
+>>> from surestreams.queries import source
+>>> who = (('who', 'word'),)
+>>> known = {'come': source('come', who), 'gone': source('gone', who)}
+>>> query = parse_query('((come)-gone) {who!=ann}', known)
+>>> format_query(query)
+'(come - gone){who != ann}'
+"""
+HUB = """
+>>> from surestreams.hub import Hub
+>>> who = (('who', 'word'),)
+>>> hub = Hub()
+>>> done = [hub.declare('come', who), hub.declare('gone', who), hub.define('left', 'come - gone')]
+>>> told = hub.commit([('row', 'come', ('ann',)), ('row', 'come', ('bob',)), ('promise', 'gone', {'who': 'bob'})])
+>>> more = [hub.subscribe('x', 'left'), hub.pending('x'), hub.acknowledge('x', 1), hub.pending('x')]
+>>> (done, told, more, hub.journal().splitlines()[2], Hub.recovered(hub.journal()[:60]).streams())
+([None, None, []], {'left': [('bob',)]}, [None, [(0, ('bob',))], None, []], '2 23 define left come - gone', ['come', 'gone'])
+"""
+TERMINAL = """
+>>> from surestreams.terminal import Terminal
+>>> terminal = Terminal()
+>>> texts = [terminal.execute(word) for word in ['declare come who:word', 'declare gone who:word', 'define left come - gone', 'commit row come ann; promise gone *']]
+>>> (texts, terminal.execute('sure come[who]'), terminal.execute('crash 30'), terminal.execute('streams'))
+(['ok', 'ok', '-', 'left ann'], 'ann', 'ok', 'come')
+"""
 
 
 class ExamplesTest(unittest.TestCase):
@@ -112,6 +174,27 @@ class ExamplesTest(unittest.TestCase):
 
     def test_rewriting(self):
         self.holds(REWRITING, "rewriting")
+
+    def test_formats(self):
+        self.holds(FORMATS, "formats")
+
+    def test_console(self):
+        self.holds(CONSOLE, "console")
+
+    def test_certificates(self):
+        self.holds(CERTIFICATES, "certificates")
+
+    def test_audit(self):
+        self.holds(AUDIT, "audit")
+
+    def test_language(self):
+        self.holds(LANGUAGE, "language")
+
+    def test_hub(self):
+        self.holds(HUB, "hub")
+
+    def test_terminal(self):
+        self.holds(TERMINAL, "terminal")
 
     def test_readme(self):
         with open(README, encoding="ascii") as file:

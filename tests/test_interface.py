@@ -39,6 +39,21 @@ FUNCTIONS = {
         "firsts": ["query", "streams", "column", "number"],
     },
     "rewriting": {"rewrites": ["query"], "is_rewriting": ["value"], "pushed": ["query"]},
+    "formats": {
+        "format_row": ["columns", "row"],
+        "format_limits": ["columns", "limits"],
+        "parse_row": ["columns", "text"],
+        "parse_limits": ["columns", "text"],
+    },
+    "certificates": {
+        "certificate": ["query", "streams", "row"],
+        "is_certificate": ["query", "streams", "row", "value"],
+        "exclusion": ["query", "streams", "limits"],
+        "is_exclusion": ["query", "streams", "limits", "value"],
+        "is_settled": ["query", "streams", "limits"],
+    },
+    "audit": {"report": ["query", "events"], "is_report": ["query", "value"]},
+    "language": {"parse_query": ["text", "known"], "format_query": ["query"]},
 }
 CLASSES = {
     "boxes": {
@@ -102,8 +117,32 @@ CLASSES = {
         },
         "Recorder": {"__init__": [], "rows": [], "__call__": ["row"], "__len__": None},
     },
+    "console": {"Console": {"__init__": ["query"], "execute": ["command"]}},
+    "hub": {
+        "Hub": {
+            "__init__": [],
+            "declare": ["name", "columns"],
+            "define": ["name", "text"],
+            "drop": ["name"],
+            "commit": ["events"],
+            "subscribe": ["name", "view"],
+            "acknowledge": ["name", "number"],
+            "pending": ["name"],
+            "streams": [],
+            "views": [],
+            "subscribers": [],
+            "stream_of": ["name"],
+            "query_of": ["name"],
+            "out": ["name"],
+            "waiting": ["name"],
+            "journal": [],
+            "as_of": ["number"],
+            "compacted": [],
+        },
+    },
+    "terminal": {"Terminal": {"__init__": [], "execute": ["command"]}},
 }
-CLASS_METHODS = {"engine": {"Engine": {"replayed": ["query", "events"]}}}
+CLASS_METHODS = {"engine": {"Engine": {"replayed": ["query", "events"]}}, "hub": {"Hub": {"recovered": ["text"]}}}
 GENERATORS = {"engine": {"Engine": ["feed"]}, "rewriting": {None: ["rewrites"]}}
 PROPERTIES = {
     "boxes": {"Box": ["columns"]},
